@@ -1,0 +1,1 @@
+"""Whatleaves: which errors leave a function, whatever its callbacks and later classes do."""
