@@ -67,6 +67,23 @@ class PlainRun:
         finally:
             self.handled, self.bound = handled, bound
 
+    def made(self, name, cause):
+        """A new error."""
+        return Error(name, cause)
+
+    def from_outside(self, outcome):
+        return Error(outcome, None)
+
+    def seen(self, error):
+        """What a case has as handled while this error is handled."""
+        return error.name
+
+    def is_within(self, error, names):
+        return any(self.program.classes.within(error.name, name) for name in names)
+
+    def begins(self, clauses, c):
+        """Take note of a clause."""
+
     def do_pass(self):
         pass
 
@@ -78,23 +95,23 @@ class PlainRun:
 
     def do_raise(self, name, cause=None):
         if cause is None:
-            raise Leaves(Error(name, self.handled))
-        raise Leaves(Error(name, None if cause == "none" else self.bound[cause]))
+            raise Leaves(self.made(name, self.handled))
+        raise Leaves(self.made(name, None if cause == "none" else self.bound[cause]))
 
     def do_again(self, n=None):
         if n is not None:
             raise Leaves(self.bound[n])
-        raise Leaves(Error("vacant", None) if self.handled is None else self.handled)
+        raise Leaves(self.made("vacant", None) if self.handled is None else self.handled)
 
     def do_call(self, called, *passed):
         word = self.stands.get(called, called)
-        handled = None if self.handled is None else self.handled.name
+        handled = None if self.handled is None else self.seen(self.handled)
         if word in self.program.names:
             case = (word, tuple(self.stands.get(x, x) for x in passed), handled)
             error = self.choose("call", (case, self.handled))
         else:
             outcome = self.choose("outside", (word, handled))
-            error = None if outcome == "returns" else Error(outcome, None)
+            error = None if outcome == "returns" else self.from_outside(outcome)
         if error is not None:
             raise Leaves(error)
 
@@ -118,8 +135,9 @@ class PlainRun:
         try:
             self.do_block(block)
         except Leaves as leaving:
-            for names, n, inner in clauses:
-                if any(self.program.classes.within(leaving.error.name, name) for name in names):
+            for c, (names, n, inner) in enumerate(clauses):
+                if self.is_within(leaving.error, names):
+                    self.begins(clauses, c)
                     self.do_with_handled(leaving.error, inner, n)
                     return
             raise
@@ -142,7 +160,7 @@ class PlainRun:
             self.do_block(block)
         except Leaves as leaving:
             self.do_with_handled(leaving.error, (("call", leave),))
-            if not any(self.program.classes.within(leaving.error.name, name) for name in quiet):
+            if not self.is_within(leaving.error, quiet):
                 raise
             return
         except (Returns, Breaks):

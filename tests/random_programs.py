@@ -1,5 +1,6 @@
 """Random programs, for tests with a seed."""
 
+from whatleaves.acts import Acts
 from whatleaves.classes import Classes
 from whatleaves.functions import Function
 from whatleaves.programs import Program
@@ -9,10 +10,14 @@ CALLBACKS = {"f": ("p",), "g": (), "h": (), "two": ("p", "q")}
 
 
 class Blocks:
-    """Makes blocks of a function; left is the number of statements that may still be made."""
+    """Makes blocks of a function; left is the number of statements that may still be made.
 
-    def __init__(self, random, callbacks):
+    Busy blocks mostly call callbacks and look at their errors.
+    """
+
+    def __init__(self, random, callbacks, busy=False):
         self.random = random
+        self.callbacks = callbacks if busy else ()
         self.left = 14
         self.things = callbacks + tuple(name for name in CALLBACKS if CALLBACKS[name] == ())
         self.called = callbacks + tuple(CALLBACKS)
@@ -25,8 +30,10 @@ class Blocks:
         random = self.random
         self.left -= 1
         if self.left > 0 and depth < 6 and random.random() < 0.6:
-            return self.large(random.choice(("handling", "either", "loop", "try", "try", "try", "with")), depth,
-                in_loop, bound, clauses)
+            words = ("handling", "either", "loop", "try", "try", "try", "with") + ("try",) * 4 * len(self.callbacks)
+            return self.large(random.choice(words), depth, in_loop, bound, clauses)
+        if self.callbacks != () and random.random() < 0.7:
+            return ("call", random.choice(self.callbacks))
         simple = [("pass",), ("return",), ("raise", self.name()), ("raise", self.name(), "none"), ("again",)]
         simple += [("break",)] * in_loop * 2 + [("again", n) for n in bound] + [("raise", self.name(),
             n) for n in bound]
@@ -61,8 +68,17 @@ class Blocks:
         return ("call", called) + tuple(self.random.choice(self.things) for _ in CALLBACKS.get(called, ()))
 
 
-def random_program(random):
+def random_program(random, busy=False):
     """A program of four functions that may call one another."""
-    functions = [Function(name, *callbacks, block=Blocks(random, callbacks).block(1, False, (), 0)) for name,
-        callbacks in CALLBACKS.items()]
+    functions = []
+    for name, callbacks in CALLBACKS.items():
+        block = Blocks(random, callbacks, busy).block(1, False, (), 0)
+        functions.append(Function(name, *callbacks, block=block))
     return Program(CLASSES, *functions)
+
+
+def random_acts(random, classes, many, words=("p", "p", "x")):
+    """At most so many acts, some of them with words that are no classes."""
+    handled = (None,) * 4 + classes.names + ("w",)
+    outcomes = ("returns",) * 3 + classes.names + ("v",)
+    return Acts(*[(random.choice(words), random.choice(handled), random.choice(outcomes)) for _ in range(many)])

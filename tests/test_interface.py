@@ -9,6 +9,21 @@ FUNCTIONS = {
     "texts": {"program_text": "(program)", "function_text": "(function)"},
     "reader": {"read_program": "(text)", "read_function": "(text)"},
     "plays": {"play": "(program, record)"},
+    "looks": {"look": "(program, level, case, table)"},
+    "tables": {
+        "closed": "(program, level, table)", "table_of": "(program, level, case)", "outcomes": "(program, level, case)",
+        "can": "(program, acts, function, *given, handled=None)"},
+    "paths": {"record_of": "(program, level, case, outcome)"},
+    "lists": {
+        "list_look": "(program, acts, case, lists)", "covered": "(program, acts, lists)",
+        "lists_of": "(program, acts, case)", "demands": "(program, acts, case, outcome)"},
+    "evidence": {
+        "evidence": "(program, acts, case, outcome)",
+        "holds_list": "(program, acts, case, outcome, records, lists)"},
+    "bars": {
+        "bars": "(program, acts, case, outcome)", "holds_bar": "(program, acts, case, outcome, bar, table)"},
+    "callbacks": {"acts_of": "(program, functions)", "told": "(program, name, callback, acts)"},
+    "alike": {"parted": "(one, other, acts)"},
 }
 CLASSES = {
     ("classes", "Classes"): {
@@ -35,6 +50,17 @@ CLASSES = {
         "__init__": "(self, *rows)", "made": "(cls, rows)", "__len__": "(self)", "__getitem__": "(self, at)",
         "__eq__": "(self, other)"},
     ("plays", "Played"): {"front": "(self, k)"},
+    ("levels", "Level"): {
+        "__init__": "(self, classes)", "view": "(self, name, cause=None)", "taken": "(self, view, names)",
+        "does": "(self, callback, handled)", "name_of": "(self, view)"},
+    ("levels", "ByClass"): {
+        "__init__": "(self, classes, acts)", "view": "(self, name, cause=None)", "taken": "(self, view, names)",
+        "does": "(self, callback, handled)", "name_of": "(self, view)"},
+    ("looks", "Look"): {},
+    ("demands", "Demands"): {
+        "__init__": "(self, *sets)", "always": "()", "never": "()", "made": "(cls, sets)", "__call__": "(self, acts)",
+        "__len__": "(self)", "__getitem__": "(self, at)", "__eq__": "(self, other)", "__or__": "(self, other)",
+        "__and__": "(self, other)", "dual": "(self)", "filled": "(self, callback, acts)", "renamed": "(self, words)"},
 }
 
 
@@ -56,7 +82,10 @@ class TestInterface(unittest.TestCase):
                 own = vars(found)[method]
                 plain = getattr(own, "__func__", own)
                 self.assertEqual(str(inspect.signature(plain)), parameters, (word, method))
-        self.assertIsInstance(vars(importlib.import_module("whatleaves.classes").Classes)["plain"], staticmethod)
+        for name, word, method in (("classes", "Classes", "plain"), ("demands", "Demands", "always"), ("demands",
+            "Demands", "never")):
+            found = getattr(importlib.import_module("whatleaves." + name), word)
+            self.assertIsInstance(vars(found)[method], staticmethod)
 
     def test_made_is_a_class_method(self):
         for (name, word), methods in CLASSES.items():

@@ -9,7 +9,7 @@ import unittest
 PACKAGE = pathlib.Path(__file__).resolve().parent.parent / "whatleaves"
 BUILTINS = set("""
     len range enumerate zip min max sum abs sorted reversed int str bool list tuple dict set isinstance ord repr
-    any all divmod ValueError TypeError staticmethod classmethod property NotImplemented
+    any all divmod super ValueError TypeError staticmethod classmethod property NotImplemented
 """.split())
 METHODS = set("""
     append clear copy count endswith extend find get index insert isalnum isalpha isdigit islower isspace
@@ -107,9 +107,22 @@ class TestLanguage(unittest.TestCase):
             once += [target.id for node in tree.body if isinstance(node, ast.Assign) for target in node.targets]
             self.assertEqual(len(once), len(set(once)), name)
             self.assertEqual(sorted((set(bound) | set(once)) & taken), [], name)
-            for word in bound + once + [node.attr for node in ast.walk(tree) if isinstance(node, ast.Attribute)]:
+            attributes = [node for node in ast.walk(tree) if isinstance(node, ast.Attribute)]
+            for word in bound + once + [node.attr for node in attributes if not self.is_base_init(node)]:
                 self.assertNotIn(word, BARRED)
                 self.assertFalse(word.startswith("__"), word)
+
+    def is_base_init(self, node):
+        """Whether an attribute is that of super().__init__."""
+        return node.attr == "__init__" and ast.unparse(node) == "super().__init__"
+
+    def test_super(self):
+        calls = [node for _, node in self.each(ast.Call) if isinstance(node.func, ast.Attribute)]
+        called = [id(node.func.value) for node in calls]
+        for name, node in self.each(ast.Call):
+            if name_of(node.func) == "super":
+                self.assertEqual(node.args, [])
+                self.assertIn(id(node), called, (name, node.lineno))
 
     def test_double_underscores(self):
         for name, node in self.each(ast.FunctionDef):
@@ -133,7 +146,11 @@ class TestLanguage(unittest.TestCase):
 
     def test_attributes_are_assigned(self):
         stored = {node.attr for _, node in self.each(ast.Attribute) if isinstance(node.ctx, ast.Store)}
-        methods = {node.name for _, node in self.each(ast.FunctionDef)}
+        methods = {node.name for _, held in self.each(ast.ClassDef) for node in held.body if isinstance(node,
+            ast.FunctionDef)}
+        constants = {name_of(node.targets[0]) for _, held in self.each(ast.ClassDef) for node in held.body if
+            isinstance(node, ast.Assign)}
+        self.assertEqual(sorted(constants & (stored | methods)), [])
         for name, node in self.each(ast.Attribute):
             self.assertIn(node.attr, stored | methods | METHODS, (name, node.lineno))
         # A name is a method in one class and an attribute in another one only where that is plain.

@@ -63,3 +63,14 @@ def act_order(act):
     """The key of an act in the order of acts: None and returns stand first."""
     callback, handled, outcome = act
     return (callback, handled or "", outcome != "returns", outcome)
+
+
+def acts_over(classes, acts):
+    """The acts of which all words for classes are names of classes."""
+    rows = [row for row in acts.rows if _is_over(classes, row)]
+    return Acts(*rows)
+
+
+def _is_over(classes, act):
+    _, handled, outcome = act
+    return (handled is None or handled in classes) and (outcome == "returns" or outcome in classes)

@@ -1,7 +1,7 @@
 """Functions: a name, callbacks and a block of statements."""
 
 from whatleaves.errors import NoFunction
-from whatleaves.statements import is_block, is_statement, parts_of, walk
+from whatleaves.statements import bound_names_in, is_block, is_statement, parts_of, walk
 from whatleaves.words import is_word
 
 MOST_CALLBACKS = 2
@@ -65,20 +65,11 @@ class Spot:
         word = self.statement[0]
         if word == "break" and not self.in_loop:
             return "break"
-        if not all([n in self.bound for n in _bound_names(self.statement)]):
+        if not all([n in self.bound for n in bound_names_in(self.statement)]):
             return "bound"
         if word == "try" and len(self.statement[2]) > 0 and self.clauses >= MOST_CLAUSES_AROUND:
             return "clauses"
         return None
-
-
-def _bound_names(statement):
-    """The bound names that a statement uses; none for a clause, which binds its name."""
-    if statement[0] == "again":
-        return statement[1:]
-    if statement[0] == "raise" and statement[2:] != ("none",):
-        return statement[2:]
-    return ()
 
 
 def _check_head(name, callbacks, block):

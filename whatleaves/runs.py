@@ -1,12 +1,9 @@
 """Does one call: the block of its function, with choices that are taken from left to right."""
 
 from whatleaves.errors import NoRecord
+from whatleaves.finishes import BREAKS, ENDS, RETURNS, handled_behind
 from whatleaves.fronts import given_error, new_error, passed_on
 from whatleaves.words import is_number
-
-# What a block or a statement finishes with is (how, error): "ends", "returns" or "breaks" and None, or "leaves" and
-# the error that leaves it.
-ENDS = ("ends", None)
 
 
 class Run:
@@ -88,11 +85,11 @@ def _do_pass(run, statement, handled, bound):
 
 
 def _do_return(run, statement, handled, bound):
-    return ("returns", None)
+    return RETURNS
 
 
 def _do_break(run, statement, handled, bound):
-    return ("breaks", None)
+    return BREAKS
 
 
 def _do_raise(run, statement, handled, bound):
@@ -139,7 +136,7 @@ def _do_try(run, statement, handled, bound):
         so_far = _do_clause(run, clauses, so_far[1], bound)
     elif so_far[0] == "ends":
         so_far = do_block(run, other, handled, bound)
-    finish = do_block(run, last, _handled_behind(so_far, handled), bound)
+    finish = do_block(run, last, handled_behind(so_far, handled), bound)
     return so_far if finish[0] == "ends" else finish
 
 
@@ -158,17 +155,12 @@ def _do_with(run, statement, handled, bound):
     if entered[0] == "leaves":
         return entered
     finish = do_block(run, block, handled, bound)
-    left = run.call_of(leave, (), _handled_behind(finish, handled))
+    left = run.call_of(leave, (), handled_behind(finish, handled))
     if left[0] == "leaves":
         return left
     if finish[0] == "leaves" and run.is_taken(finish[1], quiet):
         return ENDS
     return finish
-
-
-def _handled_behind(finish, handled):
-    """What is handled in the last block of a try, or while a with is left."""
-    return finish[1] if finish[0] == "leaves" else handled
 
 
 # What is done for each first word of a statement.

@@ -42,6 +42,15 @@ def classes_in(statement):
     return []
 
 
+def bound_names_in(statement):
+    """The bound names that a statement reads, without those in its blocks; a clause binds its name, it reads none."""
+    if statement[0] == "again":
+        return statement[1:]
+    if statement[0] == "raise" and statement[2:] != ("none",):
+        return statement[2:]
+    return ()
+
+
 def walk(block):
     """Yield the statements of a block, the inner ones too, in reading order."""
     # The statements that wait are kept in a list, the next one last, so that blocks may be of any depth.
