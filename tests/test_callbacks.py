@@ -85,6 +85,7 @@ class TestActsOf(unittest.TestCase):
         self.assertEqual(raised(NoCase, acts_of, CALLS, {"c": "f", "b": "x", "a": "g"}), ("function",))
         self.assertEqual(raised(NoCase, acts_of, CALLS, {"a": "h", "b": "g", "c": "f"}), ("given",))
         self.assertEqual(words, {"b": "f", "c": "x", "a": "g"})
+        self.assertEqual(raised(NoCase, acts_of, ONE, {"p": "f"}), ("given",))
         for name in ("", "p", "G", "error", "nothings", " g"):
             self.assertEqual(raised(NoCase, acts_of, CALLS, {"p": name}), ("function",))
 

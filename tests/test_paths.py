@@ -83,6 +83,13 @@ class TestPaths(unittest.TestCase):
                 found = self.shown(program, level_of(program), ("f", ("p",), handled))
                 self.assertGreater(len(found) + (handled == "b"), 0, rows)
 
+    def test_no_row_uses_itself(self):
+        for calls in ("  either\n    call f\n  or\n    raise a", "  loop\n    call f\n  raise a",
+            "  try\n    call f\n  except b\n    raise a\n  finally\n    either\n      pass\n    or\n      raise b"):
+            program = read_program(CLASSES + "def f\n" + calls)
+            for outcome, record, _ in self.shown(program, Level(program.classes), ("f", (), None)):
+                self.assertLess(len(record), 9, (calls, outcome))
+
     def test_functions_in_the_place_of_callbacks(self):
         program = read_program(CLASSES + "def g\n  handling\n    raise b\n  else\n    raise a\n" + P1.split("\n", 3)[3])
         case = ("f", ("g",), None)

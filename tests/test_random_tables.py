@@ -5,13 +5,16 @@ import unittest
 
 from tests.pairs import DoingPairs, Pairs
 from tests.plain_looks import TooManyRuns, plain_look, plain_table
+from tests.plain_runs import CannotGoOn, random_row
 from tests.random_programs import random_acts, random_program
 from tests.samples import told
+from whatleaves.acts import Acts
 from whatleaves.errors import Barred
 from whatleaves.levels import ByClass, Level
 from whatleaves.looks import look
 from whatleaves.paths import record_of
 from whatleaves.plays import play
+from whatleaves.records import Record
 from whatleaves.tables import closed, outcomes, table_of
 from whatleaves.texts import program_text
 
@@ -93,6 +96,29 @@ class TestRandomTables(unittest.TestCase):
                     barred += 1
         self.assertGreater(rows, 8)
         self.assertGreater(barred, 100)
+
+    def test_runs(self):
+        """Each outcome of a run is in the table, for callbacks that can do everything and for its own acts alone."""
+        found = 0
+        while found < 400:
+            program = random_program(self.random, found % 2 == 1)
+            names = program.classes.names
+            acts = Acts(*[(p, j, o) for p in ("p", "x") for j in (None,) + names for o in ("returns",) + names])
+            for function in program.functions:
+                case = self.case_of(function, (None, None) + names)
+                rows = []
+                try:
+                    random_row(program, rows, case, self.random, 4)
+                except (CannotGoOn, RecursionError):
+                    continue
+                found += 1
+                played = play(program, Record(*rows))
+                table = table_of(program, ByClass(program.classes, acts), case)
+                for (one, _), outcome in zip(rows, played.outcomes):
+                    if one in table:
+                        self.assertIn(outcome, table[one])
+                own = ByClass(program.classes, played.acts)
+                self.assertIn(played.outcomes[-1], outcomes(program, own, case))
 
     def check_least(self, program, level, case, table):
         one = self.random.choice(list(table))

@@ -5,6 +5,7 @@ from tests.samples import P1, P2, P3, P4, any_values, told
 from whatleaves.acts import Acts
 from whatleaves.errors import NoCase
 from whatleaves.levels import ByClass, Level
+from whatleaves.looks import look
 from whatleaves.reader import read_program
 from whatleaves.tables import can, closed, outcomes, table_of
 
@@ -93,6 +94,28 @@ class TestTables(unittest.TestCase):
         self.assertTrue(closed(THREE, level, table))
         self.assertEqual(outcomes(THREE, level, ("m", (), ("c", "a"))), (("b", "c"),))
 
+    def test_views_that_are_kinds(self):
+        # No class of P4 is within both a and b, but one that is made later may be.
+        kinds = FOUR.classes.kinds()
+
+        class Kinds(Level):
+            KIND = "kind"
+
+            def view(self, name, cause=None):
+                return (name,)
+
+            def taken(self, view, names):
+                return self.classes.meets(view, names)
+
+            def does(self, callback, handled):
+                return ("returns",) + kinds
+
+        level, case = Kinds(FOUR.classes), ("f", ("p",), None)
+        self.assertEqual(outcomes(FOUR, level, case), ("returns", ("a",), ("a", "vacant"), ("a", "vacant", "z"), ("a",
+            "z"), ("z",)))
+        self.assertTrue(closed(FOUR, level, table_of(FOUR, level, case)))
+        self.assertEqual(len(look(FOUR, level, ("f", ("p",), ("a", "b")), {}).outcomes), 6)
+
     def test_entries_are_ordered(self):
         program = read_program("def f\n  either\n    raise vacant\n  or\n    pass\n  or\n    raise error")
         self.assertEqual(outcomes(program, Level(program.classes), ("f", (), None)), ("returns", "error", "vacant"))
@@ -141,6 +164,14 @@ class TestClosed(unittest.TestCase):
         self.assertTrue(closed(program=CALLS, level=self.level, table=more))
         more = {**self.table, ("g", (), "c"): ("returns",)}
         self.assertFalse(closed(CALLS, self.level, more))
+
+    def test_outcomes_that_are_no_classes(self):
+        more = {**self.table, ("g", (), "c"): ("returns", "a", "w")}
+        self.assertTrue(closed(CALLS, self.level, more))
+        more = {**self.table, ("g", (), None): ("returns", "a", "w")}
+        self.assertFalse(closed(CALLS, self.level, more))
+        more = {case: list(entry) + ["w"] for case, entry in self.table.items()}
+        self.assertTrue(closed(CALLS, self.level, more))
 
     def test_empty(self):
         self.assertTrue(closed(CALLS, self.level, {}))

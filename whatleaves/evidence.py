@@ -2,7 +2,7 @@
 
 from whatleaves.errors import NoRecord
 from whatleaves.families import families_of, own_acts
-from whatleaves.lists import covered, solve_lists, table_of_lists
+from whatleaves.lists import covered, demands_at, solve_lists, table_of_lists
 from whatleaves.plays import play
 from whatleaves.routes import written
 
@@ -11,9 +11,9 @@ def evidence(program, acts, case, outcome):
     """A record for each least set of these acts that lets the outcome come about, and the table of lists."""
     families = families_of(program, acts)
     solver = solve_lists(program, families, (case,))
-    least = families.demands_of(solver.outcomes_at(case).get(outcome, 0))
-    # For a least set the acts of a record are all of its acts.
-    records = [written(solver, families.number_of(one), case, outcome) for one in least.sets]
+    least = demands_at(solver, case, outcome).sets
+    # With fewer acts than a least set has there is no such run, so that the acts of a record are just those of its set.
+    records = [written(solver, families.number_of(one), case, outcome) for one in least]
     return tuple(records), table_of_lists(solver)
 
 

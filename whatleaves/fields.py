@@ -1,7 +1,5 @@
 """Bundles: dicts from finishes to worths that are written as one integer, so that they are joined at once."""
 
-from whatleaves.finishes import BREAKS, ENDS, RETURNS
-
 
 class Fields:
     """The fields of bundles: each finish has a field of some bits, in which its worth stands; 0 if it is not there."""
@@ -13,13 +11,13 @@ class Fields:
         self._ordered = []
         # The lowest bit of each field.
         self._ones = 0
-        for finish in (ENDS, RETURNS, BREAKS):
-            self._add_field(finish)
 
     def shift_of(self, finish):
-        """Where the field of a finish begins."""
+        """Where the field of a finish begins; a new finish gets the next field."""
         if finish not in self._shifts:
-            self._add_field(finish)
+            self._shifts[finish] = len(self._ordered) * self.width
+            self._ones = self._ones | 1 << self._shifts[finish]
+            self._ordered.append(finish)
         return self._shifts[finish]
 
     def single(self, finish, worth):
@@ -51,8 +49,3 @@ class Fields:
             pairs.append((self._ordered[k], worth))
             bundle = bundle - (worth << k * self.width)
         return pairs
-
-    def _add_field(self, finish):
-        self._shifts[finish] = len(self._ordered) * self.width
-        self._ones = self._ones | 1 << self._shifts[finish]
-        self._ordered.append(finish)

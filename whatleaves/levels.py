@@ -17,7 +17,8 @@ class Level:
 
     def taken(self, view, names):
         """Whether an error with this view is within one of the names."""
-        return self.classes.meets((view,), names)
+        # A table that is not right may have outcomes that are no classes, which are within none.
+        return view in self.classes and self.classes.meets((view,), names)
 
     def does(self, callback, handled):
         """The outcomes of a call of this outside callback while an error with the view handled, or none, is handled."""

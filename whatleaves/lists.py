@@ -11,8 +11,7 @@ from whatleaves.solver import solved
 def list_look(program, acts, case, lists):
     """Look once at the block of the case's function; a dict from outcomes to Demands."""
     families = families_of(program, acts)
-    found = ListScan(program, families, lists).outcomes_at(case)
-    return {outcome: families.demands_of(found[outcome]) for outcome in in_order(list(found))}
+    return _demanded(families, ListScan(program, families, lists).outcomes_at(case))
 
 
 def covered(program, acts, lists):
@@ -34,9 +33,7 @@ def lists_of(program, acts, case):
 
 def demands(program, acts, case, outcome):
     """The Demands of the least sets of these acts that let the outcome come about."""
-    families = families_of(program, acts)
-    solver = solve_lists(program, families, (case,))
-    return families.demands_of(solver.outcomes_at(case).get(outcome, 0))
+    return demands_at(solve_lists(program, families_of(program, acts), (case,)), case, outcome)
 
 
 def solve_lists(program, families, cases):
@@ -45,14 +42,13 @@ def solve_lists(program, families, cases):
 
 
 def table_of_lists(solver):
-    """The table of lists of all cases that a solver with families met."""
-    return {case: list_at(solver, case) for case in solver.roots}
+    """The table of lists of all cases that a solver with families has met."""
+    return {case: _demanded(solver.weights, solver.outcomes_at(case)) for case in solver.roots}
 
 
-def list_at(solver, case):
-    """What a solver with families found out about a case: a dict from outcomes to Demands."""
-    found = solver.outcomes_at(case)
-    return {outcome: solver.weights.demands_of(found[outcome]) for outcome in in_order(list(found))}
+def demands_at(solver, case, outcome):
+    """The Demands that a solver with families has found for an outcome of a case."""
+    return solver.weights.demands_of(solver.outcomes_at(case).get(outcome, 0))
 
 
 class ListScan(Scan):
@@ -63,10 +59,14 @@ class ListScan(Scan):
         self.lists = lists
 
     def entry(self, case):
-        """The outcomes of the table for this case that some set of acts can meet, each with these sets."""
+        """The outcomes of the table for this case, each with the sets of acts that meet what it demands; 0 for none."""
         entry = self.lists.get(case, {})
-        worths = {outcome: self.weights.family_of(entry[outcome]) for outcome in entry}
-        return {outcome: worths[outcome] for outcome in worths if worths[outcome] != 0}
+        return {outcome: self.weights.family_of(entry[outcome]) for outcome in entry}
+
+
+def _demanded(families, found):
+    """A dict from outcomes to Demands, made from one to families."""
+    return {outcome: families.demands_of(found[outcome]) for outcome in in_order(list(found))}
 
 
 def _is_met(families, entry, outcome, family):

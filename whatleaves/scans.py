@@ -24,7 +24,7 @@ class Scan(Looker):
     """Goes through blocks where the outcomes of calls of functions are known.
 
     A worth is a family: an integer with one bit for each of many members, such as sets of acts, for which something can
-    be. No family is 0, and all of them have a member in common. The weights tell what outside callbacks do.
+    be. In a bundle no family is 0, and all have a member in common. The weights tell what outside callbacks do.
     """
 
     def __init__(self, program, level, weights):
@@ -38,7 +38,7 @@ class Scan(Looker):
         self._answers = {}
 
     def entry(self, case):
-        """The outcomes of calls with this case, each with its worth; here there are none."""
+        """The outcomes of calls with this case, each with its worth, 0 for none; here there are no outcomes."""
         return {}
 
     def outcomes_at(self, case):
