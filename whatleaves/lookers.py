@@ -27,7 +27,7 @@ class Looker:
         """What a call in a place can finish with that has this case; here with nothing."""
         return self.nothing
 
-    def begins(self, number, c):
+    def begins(self, place, number, c):
         """Take note that the block of clause c of the statement with this number is begun; here not at all."""
 
     def clause_for(self, step, view):

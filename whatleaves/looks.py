@@ -38,6 +38,6 @@ class TableScan(Scan):
         self.cases[case] = True
         return super().called(place, case)
 
-    def begins(self, number, c):
+    def begins(self, place, number, c):
         """Take note of a clause."""
         self.clauses[(number, c)] = True

@@ -101,7 +101,7 @@ def _behind_first(looker, place, step, finish):
         if c is not None:
             n = step.statement[2][c][1]
             bound = place.bound if n is None else {**place.bound, n: finish[1]}
-            looker.begins(step.number, c)
+            looker.begins(place, step.number, c)
             return looker.inner(place, step.blocks[1 + c], finish[1], bound)
     other = step.other_block()
     if finish == ENDS and other is not None:

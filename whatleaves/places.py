@@ -15,14 +15,14 @@ class Scope:
 class Place:
     """A block in a scope, what is handled there, and the views of what its names are bound to."""
 
-    def __init__(self, number, scope, block, handled, bound):
+    def __init__(self, number, scope, block, handled, bound, nothing):
         self.number = number
         self.scope = scope
         self.block = block
         self.handled = handled
         self.bound = bound
         # The bundle of what the block can finish with, and (time, bundle) for each time at which it grew.
-        self.finishes = 0
+        self.finishes = nothing
         self.grown = []
         # The numbers of the places whose finishes depend on these.
         self.users = {}

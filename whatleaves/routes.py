@@ -21,11 +21,16 @@ class Routes(Looker):
 
     def inner(self, place, block, handled, bound):
         """How a block in the block of a place can finish."""
-        return self._ways("inner", self.solver.place_for(place.scope, block, handled, bound))
+        ways = self._ways("inner", self.solver.place_for(place.scope, block, handled, bound))
+        return self.all_seen(ways, handled, bound)
 
     def called(self, place, case):
         """How a call in a place can finish that has this case."""
-        return self._ways("row", self.solver.root(case))
+        return self.all_seen(self._ways("row", self.solver.root_called(case)), case[2], {})
+
+    def all_seen(self, bundle, handled, bound):
+        """What is in a bundle, as it is seen from where handled and bound have these views."""
+        return {self.solver.seen(finish, handled, bound): bundle[finish] for finish in bundle}
 
     def outside(self, callback, handled):
         """How a call of an outside callback can finish."""
@@ -90,43 +95,55 @@ class Row:
         self.key = (place.number, finish)
         self.steps = _steps_to(solver, member, place, finish)
 
-    def case_of_classes(self, level):
-        """The case of the call, with a class in the place of a view."""
-        function, given, handled = self.place.root_case()
-        return (function, given, None if handled is None else level.name_of(handled))
-
-    def choices_with(self, indexes):
-        """The choices; indexes is a dict from the keys of rows to their indexes."""
-        return tuple([step[1] if step[0] == "take" else (indexes[_key_of(step)],) for step in self.steps])
+    def told_with(self, indexes, level):
+        """The row as it stands in a record; indexes is a dict from the keys of rows to their indexes."""
+        return (told_case(self.place, level), choices_of(self.steps, indexes))
 
 
 def written(solver, member, case, outcome):
     """A record whose last row is a run of this case with this outcome that a member of families allows."""
-    rows = _needed_rows(solver, member, solver.root(case), finish_of_call(outcome))
-    # What a row uses came about earlier.
-    rows = sorted(rows, key=_time_of_row)
-    indexes = {row.key: k for k, row in enumerate(rows)}
-    return Record.made([(row.case_of_classes(solver.level), row.choices_with(indexes)) for row in rows])
+    rows = needed_rows(solver, member, [("row", solver.root(case), finish_of_call(outcome))])
+    indexes = indexes_of(rows)
+    return Record.made([row.told_with(indexes, solver.level) for row in rows])
 
 
-def _needed_rows(solver, member, place, finish):
+def needed_rows(solver, member, steps):
+    """Rows for these steps, and for all that these rows use, each behind what it uses."""
     found = {}
-    waiting = [("row", place, finish)]
+    waiting = list(steps)
     while len(waiting) > 0:
         step = waiting.pop()
-        if _key_of(step) not in found:
+        if key_of(step) not in found:
             row = Row(solver, member, step[1], step[2])
             found[row.key] = row
             waiting.extend([one for one in row.steps if one[0] == "row"])
-    return list(found.values())
+    # What a row uses came about earlier.
+    return sorted(list(found.values()), key=_time_of_row)
+
+
+def indexes_of(rows):
+    """The index of each row, by its key."""
+    return {row.key: k for k, row in enumerate(rows)}
+
+
+def choices_of(steps, indexes):
+    """The choices in steps; indexes is a dict from the keys of rows to their indexes."""
+    return tuple([step[1] if step[0] == "take" else (indexes[key_of(step)],) for step in steps])
+
+
+def key_of(step):
+    """The key of the row that a step needs."""
+    return (step[1].number, step[2])
+
+
+def told_case(place, level):
+    """The case of a root, with a class in the place of a view."""
+    function, given, handled = place.root_case()
+    return (function, given, None if handled is None else level.name_of(handled))
 
 
 def _time_of_row(row):
     return row.time
-
-
-def _key_of(step):
-    return (step[1].number, step[2])
 
 
 def _steps_to(solver, member, place, finish):

@@ -1,11 +1,8 @@
 """Goes through blocks by views, for all runs at once, and keeps what they can finish with."""
 
 from whatleaves.fields import Fields
-from whatleaves.finishes import ENDS, RETURNS, finish_of_call, outcome_of_call
-from whatleaves.lookers import Looker
-from whatleaves.moves import finishes_of_block
-from whatleaves.places import Place, Scope
-from whatleaves.steps import Block
+from whatleaves.finishes import finish_of_call, outcome_of_call
+from whatleaves.placers import Placer
 
 
 class Certain:
@@ -20,7 +17,7 @@ class Certain:
         return {outcome: 1 for outcome in self.level.does(callback, handled)}
 
 
-class Scan(Looker):
+class Scan(Placer):
     """Goes through blocks where the outcomes of calls of functions are known.
 
     A worth is a family: an integer with one bit for each of many members, such as sets of acts, for which something can
@@ -31,9 +28,6 @@ class Scan(Looker):
         self.fields = Fields(weights.many)
         super().__init__(program, level, 0, self.fields.whole)
         self.weights = weights
-        self.places = {}
-        self._blocks = {}
-        self._scopes = {}
         self._callbacks = {}
         self._answers = {}
 
@@ -45,36 +39,6 @@ class Scan(Looker):
         """The outcomes of the block of the case's function, each with its worth."""
         pairs = self.fields.pairs_in(self.root(case).finishes)
         return {outcome_of_call(finish): worth for finish, worth in pairs}
-
-    def root(self, case):
-        """The place of a case."""
-        name, given, handled = case
-        if (name, given) not in self._scopes:
-            self._scopes[(name, given)] = self._scope(name, given)
-        scope = self._scopes[(name, given)]
-        return self.place_for(scope, scope.block, handled, {})
-
-    def place_for(self, scope, block, handled, bound):
-        """The place of a block in a scope; bound has all names that are bound there."""
-        views = tuple([bound[n] for n in block.names]) if len(block.names) > 0 else ()
-        key = (scope.number, block.first, handled, views)
-        if key not in self.places:
-            # Only what the block reads is bound, so that one place serves for all that it does not read.
-            read = {n: bound[n] for n in block.names}
-            self.places[key] = Place(len(self.places), scope, block, handled, read)
-            self.enters(self.places[key])
-        return self.places[key]
-
-    def enters(self, place):
-        """Find out what the block of a new place can finish with."""
-        place.finishes = self.finishes_at(place)
-
-    def finishes_at(self, place):
-        """What the block of a place can finish with; at a root a return is an end."""
-        found = finishes_of_block(self, place, place.block)
-        if not place.is_root():
-            return found
-        return self.without(found, RETURNS) | self.single(ENDS, self.worth_of(found, RETURNS))
 
     def inner(self, place, block, handled, bound):
         """What a block in the block of a place can finish with."""
@@ -127,9 +91,3 @@ class Scan(Looker):
     def _bundle_of_call(self, outcomes):
         worths = {finish_of_call(outcome): outcomes[outcome] for outcome in outcomes}
         return self.fields.bundle_of(worths)
-
-    def _scope(self, name, given):
-        function = self.program.function(name)
-        if name not in self._blocks:
-            self._blocks[name] = Block(function.block, 0)
-        return Scope(len(self._scopes), name, given, function.callbacks, self._blocks[name])

@@ -50,9 +50,17 @@ class Solver(Scan):
         used.users[place.number] = True
         return used.finishes
 
+    def root_called(self, case):
+        """The place of a call that has this case, as it is seen from where it is called."""
+        return self.root(case)
+
+    def seen(self, finish, handled, bound):
+        """What finishes so at its place, as it is seen from where it is begun while handled and bound are so."""
+        return finish
+
     def called(self, place, case):
         """What a call in a place can finish with that has this case, as far as it is known."""
-        used = self.root(case)
+        used = self.root_called(case)
         used.users[place.number] = True
         return used.finishes
 
