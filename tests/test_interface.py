@@ -24,6 +24,17 @@ FUNCTIONS = {
         "bars": "(program, acts, case, outcome)", "holds_bar": "(program, acts, case, outcome, bar, table)"},
     "callbacks": {"acts_of": "(program, functions)", "told": "(program, name, callback, acts)"},
     "alike": {"parted": "(one, other, acts)"},
+    "later": {"leaving": "(program, case)"},
+    "clients": {"client": "(program, case, kind)", "holds_client": "(program, case, kind, client)"},
+    "trails": {"leaves": "(program, case, trail)", "trails": "(program, case, most)"},
+    "lengths": {
+        "length_look": "(program, case, table)", "length_closed": "(program, table)", "lengths_of": "(program, case)",
+        "longest": "(program, case)"},
+    "growth": {
+        "grown": "(record, inner, outer)", "grows": "(program, record, inner, outer)", "growth": "(program, case)"},
+    "wraps": {"wrapped": "(program, names, allowed, made)"},
+    "closing": {"closing": "(program, doors, allowed, made, places)"},
+    "idle": {"idle": "(program)"},
 }
 CLASSES = {
     ("classes", "Classes"): {
@@ -57,6 +68,21 @@ CLASSES = {
         "__init__": "(self, classes, acts)", "view": "(self, name, cause=None)", "taken": "(self, view, names)",
         "does": "(self, callback, handled)", "name_of": "(self, view)"},
     ("looks", "Look"): {},
+    ("later", "ByKind"): {
+        "__init__": "(self, classes)", "view": "(self, name, cause=None)", "taken": "(self, view, names)",
+        "does": "(self, callback, handled)", "name_of": "(self, view)"},
+    ("clients", "Client"): {"__init__": "(self, rows, record)"},
+    ("trails", "ByTrail"): {
+        "__init__": "(self, classes, trail)", "view": "(self, name, cause=None)", "taken": "(self, view, names)",
+        "does": "(self, callback, handled)", "name_of": "(self, view)"},
+    ("trails", "ByWord"): {
+        "__init__": "(self, classes, most)", "view": "(self, name, cause=None)", "taken": "(self, view, names)",
+        "does": "(self, callback, handled)", "name_of": "(self, view)"},
+    ("shop", "Shop"): {
+        "__init__": "(self, program)", "__len__": "(self)", "take": "(self, program)", "put": "(self, function)",
+        "grow": "(self, *rows)", "drop": "(self, name)", "undo": "(self)",
+        "watch": "(self, acts, function, *given, handled=None)", "tried": "(self, *functions)"},
+    ("desk", "Desk"): {"__init__": "(self)", "say": "(self, row)"},
     ("demands", "Demands"): {
         "__init__": "(self, *sets)", "always": "()", "never": "()", "made": "(cls, sets)", "__call__": "(self, acts)",
         "__len__": "(self)", "__getitem__": "(self, at)", "__eq__": "(self, other)", "__or__": "(self, other)",
@@ -86,6 +112,21 @@ class TestInterface(unittest.TestCase):
             "Demands", "never")):
             found = getattr(importlib.import_module("whatleaves." + name), word)
             self.assertIsInstance(vars(found)[method], staticmethod)
+
+    def test_properties(self):
+        shop = importlib.import_module("whatleaves.shop").Shop
+        for name in ("current", "answer"):
+            self.assertIsInstance(vars(shop)[name], property)
+
+    def test_trails_is_a_generator(self):
+        self.assertTrue(inspect.isgeneratorfunction(importlib.import_module("whatleaves.trails").trails))
+        self.assertTrue(inspect.isgeneratorfunction(importlib.import_module("whatleaves.statements").walk))
+
+    def test_kinds_of_levels(self):
+        kinds = {("levels", "Level"): "class", ("levels", "ByClass"): "class", ("later", "ByKind"): "kind", ("trails",
+            "ByTrail"): "trail", ("trails", "ByWord"): "word"}
+        for (name, word), kind in kinds.items():
+            self.assertEqual(getattr(importlib.import_module("whatleaves." + name), word).KIND, kind)
 
     def test_made_is_a_class_method(self):
         for (name, word), methods in CLASSES.items():

@@ -31,7 +31,7 @@ def _set_order(one):
 
 
 def _leak(program, level, doors, allowed):
-    """The first door through which a kind leaves that is not allowed, and the first such kind; None if there is none."""
+    """The first door through which a kind leaves that is not allowed, with the first such kind, or None."""
     solver = Solver(program, level, Certain(level))
     for door in doors:
         case = program.case(door)

@@ -22,7 +22,7 @@ class Histories(Threads):
         return handled + self.trails_leaving(case)
 
     def trails_leaving(self, case):
-        """The forms of the trails of the errors that leave a case; but for the handled one, which is none of these."""
+        """The forms of the trails of the errors that leave a case, but for the one that is handled there."""
         forms = []
         entry = self.entry(case)
         for finish in entry:
@@ -33,7 +33,7 @@ class Histories(Threads):
         return forms
 
     def settle_bases(self):
-        """Settle the nodes of all bases, where all cases are woven."""
+        """Settle the nodes of all bases, as far as the cases are woven."""
         for key in self._forms:
             self.grammar.settle(self._nodes[key], tuple(list(self._forms[key])))
 

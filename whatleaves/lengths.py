@@ -29,7 +29,8 @@ def lengths_of(program, case):
     table = {}
     for one in threads.cases:
         entry = threads.entry(one)
-        table[one] = _by_key({finish: sizes.greatest[entry[finish][0]] if has_front(finish) else 0 for finish in entry})
+        lengths = {finish: sizes.greatest[entry[finish][0]] if has_front(finish) else 0 for finish in entry}
+        table[one] = _by_key(lengths)
     return table
 
 
@@ -74,7 +75,7 @@ class LengthLooker(Weaver):
         """How calls of a case can finish, with the greatest lengths of the fronts."""
         if case not in self.cases:
             entry = self.table.get(case, {})
-            self.cases[case] = {_finish_of(key): entry[key] for key in entry}
+            self.cases[case] = {_finish_of(key, case[2]): entry[key] for key in entry}
         return self.cases[case]
 
     def lengths_at(self, case):
@@ -83,12 +84,12 @@ class LengthLooker(Weaver):
         return _by_key({finish: finishes[finish] if has_front(finish) else 0 for finish in finishes})
 
 
-def _finish_of(key):
+def _finish_of(key, handled):
     """The finish of a call that is written in a table of lengths with this key."""
     if key == "returns":
         return ENDS
     name, is_open = key
-    return ("leaves", (name, HANDLED if is_open else NOTHING, False))
+    return ("leaves", (name, HANDLED if is_open and handled is not None else NOTHING, False))
 
 
 def _by_key(lengths):

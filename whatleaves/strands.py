@@ -86,8 +86,7 @@ def has_front(finish):
 
 
 class StrandSolver(Solver):
-    """A Solver by strands: what finishes a block is told from its own place, and so it is told once for all errors of
-    a class that are handled there."""
+    """A Solver by strands: what a block finishes with is told from its own place, once for all errors of a class."""
 
     def __init__(self, program):
         level = Strands(program.classes)

@@ -4,7 +4,7 @@ from whatleaves.functions import Function
 
 
 def wrapped(program, names, allowed, made):
-    """The program in which these functions let errors of class made leave in the place of those that are not allowed."""
+    """The program in which these functions let errors of class made leave in the place of all that are not allowed."""
     for name in names:
         function = program.function(name)
         block = (("try", function.block, _clauses(allowed, made), (), ()),)
