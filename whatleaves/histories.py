@@ -1,7 +1,8 @@
 """Makes a grammar of whole trails: of the errors that leave calls, and of those that are handled at calls."""
 
-from whatleaves.strands import HANDLED, NOTHING, class_case, has_front
+from whatleaves.strands import NOTHING, class_case, has_front
 from whatleaves.threads import Threads
+from whatleaves.uses import HANDLED
 
 
 class Histories(Threads):

@@ -2,8 +2,9 @@
 
 from whatleaves.finishes import ENDS
 from whatleaves.grammar import Sizes
-from whatleaves.strands import HANDLED, NOTHING, Strands, has_front, strand_case
+from whatleaves.strands import NOTHING, Strands, has_front, strand_case
 from whatleaves.threads import threads_of
+from whatleaves.uses import HANDLED
 from whatleaves.weaver import Weaver
 
 

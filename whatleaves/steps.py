@@ -1,6 +1,7 @@
 """Blocks whose statements are numbered, with what they read from around them."""
 
 from whatleaves.statements import bound_names_in, parts_of
+from whatleaves.uses import uses_of, uses_together
 
 
 class Block:
@@ -18,6 +19,7 @@ class Block:
         self.steps = steps
         # The bound names, ascending, that some statement in the block reads and that are bound around the block.
         self.names = sorted(set([n for step in steps for n in step.names]))
+        self.uses = uses_together([step.uses for step in steps])
 
 
 class Step:
@@ -38,6 +40,7 @@ class Step:
         self.blocks = blocks
         self.behind = behind
         self.names = names
+        self.uses = uses_of(statement, blocks)
         # What takes an error with a view, for each view that was asked for.
         self.takers = {}
 

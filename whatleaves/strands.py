@@ -3,11 +3,10 @@
 from whatleaves.levels import Level
 from whatleaves.scans import Certain
 from whatleaves.solver import Solver
+from whatleaves.uses import HANDLED
 
-# The bases that a front can rest on: nothing, the error that is handled at the place, or one that is bound there; the
-# last one is written as the bound name, which is never one of these words.
+# The bases that a front can rest on are this one, HANDLED, and the names that are bound at the place.
 NOTHING = ""
-HANDLED = "handling"
 
 
 class Strands(Level):
@@ -59,13 +58,17 @@ def as_base(view, base):
 
 
 def own_views(block, handled, bound):
-    """What is handled and what is bound, as it is seen in a block that is begun so."""
-    return as_base(handled, HANDLED), {n: as_base(bound[n], n) for n in block.names}
+    """What is handled and what is bound, as it is seen in a block that is begun so.
+
+    Where the class of an error does not matter there, the view is written without it, so that all classes are one.
+    """
+    whole = block.first == 0
+    return _own_view(block, handled, HANDLED, whole), {n: _own_view(block, bound[n], n, whole) for n in block.names}
 
 
-def is_own(handled, bound):
-    """Whether all views are those of the own bases, so that what is seen from there is seen alike from inside."""
-    return handled == as_base(handled, HANDLED) and all([bound[n] == as_base(bound[n], n) for n in bound])
+def _own_view(block, view, base, whole):
+    is_seen = view is None or whole or base in block.uses.examined
+    return as_base(view, base) if is_seen else as_base(("",), base)
 
 
 def strand_case(case):
@@ -101,11 +104,14 @@ class StrandSolver(Solver):
     def inner(self, place, block, handled, bound):
         """What a block in the block of a place can finish with."""
         views = {n: bound[n] for n in block.names}
-        return self._seen(super().inner(place, block, handled, bound), handled, views)
+        finishes = super().inner(place, block, handled, bound)
+        is_own = (handled, views) == own_views(block, handled, views)
+        return finishes if is_own else self._seen(finishes, handled, views)
 
     def called(self, place, case):
         """What a call in a place can finish with that has this case."""
-        return self._seen(super().called(place, case), case[2], {})
+        finishes = super().called(place, case)
+        return finishes if case[2] == as_base(case[2], HANDLED) else self._seen(finishes, case[2], {})
 
     def root_called(self, case):
         """The place of a call that has this case, as it is seen from where it is called."""
@@ -116,8 +122,6 @@ class StrandSolver(Solver):
         return self.level.seen(finish, handled, bound)
 
     def _seen(self, finishes, handled, bound):
-        if is_own(handled, bound):
-            return finishes
         key = (finishes, handled, tuple(list(bound.items())))
         if key not in self._translated:
             pairs = self.pairs_in(finishes)

@@ -1,7 +1,8 @@
 """Goes through blocks and gathers what is kept of the fronts of the errors that leave them."""
 
 from whatleaves.placers import Placer
-from whatleaves.strands import HANDLED, NOTHING, class_case, has_front, is_own, own_views
+from whatleaves.strands import NOTHING, as_base, class_case, has_front, own_views
+from whatleaves.uses import HANDLED
 
 
 class Weaver(Placer):
@@ -28,11 +29,13 @@ class Weaver(Placer):
         used = self.place_for(place.scope, block, handled, bound)
         views = {n: bound[n] for n in block.names}
         self.passes(place, used, handled, views)
-        return self._seen(used.finishes, handled, views)
+        is_own = handled == used.handled and views == used.bound
+        return used.finishes if is_own else self._seen(used.finishes, handled, views)
 
     def called(self, place, case):
         """What a call in a place can finish with that has this case."""
-        return self._seen(self.entry(class_case(case)), case[2], {})
+        finishes = self.entry(class_case(case))
+        return finishes if case[2] == as_base(case[2], HANDLED) else self._seen(finishes, case[2], {})
 
     def passes(self, place, used, handled, bound):
         """Take note that a block is begun in the block of a place; here not at all."""
@@ -81,8 +84,6 @@ class Weaver(Placer):
         return [(self._whole(finish, bundle[finish]), True) for finish in bundle]
 
     def _seen(self, finishes, handled, bound):
-        if is_own(handled, bound):
-            return finishes
         found = {}
         for finish in finishes:
             more = finishes[finish]
