@@ -3,13 +3,22 @@
 import random
 import unittest
 
+from tests.samples import told
 from whatleaves.acts import Acts
 from whatleaves.alike import parted
 from whatleaves.bars import bars, holds_bar
 from whatleaves.callbacks import acts_of
 from whatleaves.classes import Classes
+from whatleaves.clients import client, holds_client
+from whatleaves.closing import closing
+from whatleaves.desk import Desk
+from whatleaves.errors import TooMany
 from whatleaves.evidence import evidence, holds_list
 from whatleaves.functions import Function
+from whatleaves.growth import grows, growth
+from whatleaves.idle import idle
+from whatleaves.later import leaving
+from whatleaves.lengths import length_closed, lengths_of, longest
 from whatleaves.levels import ByClass, Level
 from whatleaves.lists import covered, lists_of
 from whatleaves.looks import look
@@ -17,6 +26,8 @@ from whatleaves.paths import record_of
 from whatleaves.plays import play
 from whatleaves.programs import Program
 from whatleaves.tables import closed, outcomes, table_of
+from whatleaves.texts import program_text
+from whatleaves.trails import ByTrail, leaves, trails
 
 LETTERS = "abcdefghijklmnopqrstuvwxyz"
 CLASSES = Classes(*[(f"x{letter}", "error") for letter in LETTERS], *[(f"y{letter}", "xa", f"x{letter}") for letter in
@@ -161,6 +172,133 @@ class TestGreatest(unittest.TestCase):
             record = record_of(program, level, ("f", (), None), outcome)
             self.assertEqual(play(program, record).outcomes[-1], outcome)
         self.assertIn(NAMES[27], outcomes(program, level, ("f", (), None)))
+
+
+SIX = Classes(("xa", "error"), ("xb", "error"), ("xc", "error"), ("xd", "error"))
+
+
+def six_program(seed):
+    """Functions of 55 statements over six classes that call one another and their callbacks, each also from clauses."""
+    functions = []
+    for function in calling_program(seed).functions:
+        block = named_anew(function.block[:2], {name: SIX.names[k % 6] for k, name in enumerate(NAMES)})
+        functions.append(Function(function.name, *function.callbacks, block=block))
+    return Program(SIX, *functions)
+
+
+def named_anew(thing, words):
+    """A block with other names of classes, each once in each tuple of classes."""
+    if not isinstance(thing, tuple):
+        return words.get(thing, thing)
+    found = tuple(named_anew(part, words) for part in thing)
+    return tuple(dict.fromkeys(found)) if found and all(part in SIX.names for part in found) else found
+
+
+def taken_by_turns(many):
+    """Kinds that are bound, handled and bound again, in all combinations."""
+    functions = []
+    for k in range(many):
+        last = (("either", (("raise", SIX.names[k % 6], "n"),), (("again", "n"),), (("again", "m"),), (("call", "p"),), ((
+            "pass",),)),)
+        block = (("try", (("call", "p"),), (), (), last),)
+        for n in "mn":
+            block = (("try", (("call", "p"),), ((("error",), n, block),), (), ()),)
+        functions.append(Function(f"g{LETTERS[k]}", "p", block=block))
+    return Program(SIX, *functions)
+
+
+def doubling_program():
+    """Twelve functions each of which makes trails eight times as long as those of the one before."""
+    functions = [Function("ga", block=(("either", (("raise", "xa"),), (("raise", "xb", "none"),)),))]
+    for k in range(1, 12):
+        call = ("call", f"g{LETTERS[k - 1]}")
+        block = (call,)
+        for _ in range(7):
+            block = (("try", block, ((("error",), None, (call,)),), (), ()),)
+        functions.append(Function(f"g{LETTERS[k]}", block=block))
+    return Program(CLASSES, *functions)
+
+
+class TestGreatestLater(unittest.TestCase):
+
+    def test_leaving_and_clients(self):
+        for program, name in ((six_program(1), "ta"), (six_program(2), "tc"), (taken_by_turns(4), "ga")):
+            case = program.case(name)
+            found = leaving(program, case)
+            self.assertGreater(len(found), 20)
+            for kind in (found[0], found[-1], max(found, key=len)):
+                one = client(program, case, kind)
+                self.assertTrue(holds_client(program, case, kind, one))
+
+    def test_closing(self):
+        program = six_program(3)
+        self.assertEqual((len(program), {len(function) for function in program.functions}), (12, {55}))
+        wraps, leaks = closing(program, ("ta", "tb", "za", "zb"), ("xa",), "xa", ("za", "zb", "ta", "tb"))
+        self.assertEqual((wraps, len(leaks)), (("za", "zb", "ta", "tb"), 15))
+
+    def test_idle(self):
+        self.assertEqual(idle(six_program(3)), ())
+        self.assertEqual(idle(taken_by_turns(12)), ())
+
+    def test_desk(self):
+        desk = Desk()
+        text = program_text(six_program(4)).replace("\n", " / ")
+        self.assertEqual(desk.say("program " + text), "ok")
+        self.assertEqual(desk.say("show"), text)
+        self.assertGreater(len(desk.say("later ta").split(" ")), 20)
+        self.assertEqual(desk.say("longest za"), "endless")
+        self.assertEqual(desk.say("leaves xa.xb.xc.xd.xa.xb.xc.xd.xa.xb.xc.xd za"), "yes")
+
+
+class TestGreatestLengths(unittest.TestCase):
+
+    def test_calling(self):
+        program, case = calling_program(1), ("za", (), None)
+        table = lengths_of(program, case)
+        self.assertGreater(len(table), 3000)
+        self.assertTrue(length_closed(program, table))
+        record, inner, outer = growth(program, case)
+        self.assertTrue(grows(program, record, inner, outer))
+        for most in (2, 6):
+            self.assertEqual(told(TooMany, list, trails(program, case, most)), ("trails", 100))
+
+    def test_rotating(self):
+        program, case = rotating_program(), ("ga", (), None)
+        self.assertIsNone(longest(program, case))
+        record, inner, outer = growth(program, case)
+        self.assertTrue(grows(program, record, inner, outer))
+        self.assertEqual([len(trail) for trail in trails(program, case, 2)], [1, 1, 2, 2, 2, 2])
+        self.assertTrue(leaves(program, case, ("error",)))
+        self.assertFalse(leaves(program, case, ("xa",) * 12))
+
+    def test_nested(self):
+        program, case = nested_program(), ("gf", (), None)
+        table = lengths_of(program, case)
+        self.assertTrue(length_closed(program, table))
+        self.assertIsNone(growth(program, case))
+        self.assertGreater(longest(program, case), 100)
+        self.assertEqual(len(list(trails(program, case, 1))), 16)
+        self.assertTrue(leaves(program, case, ("error",)))
+
+    def test_doubling(self):
+        program, case = doubling_program(), ("gl", (), None)
+        self.assertEqual(longest(program, case), 8 ** 11)
+        table = lengths_of(program, case)
+        self.assertTrue(length_closed(program, table))
+        self.assertEqual(table[case], {("xa", False): 8 ** 11, ("xb", False): 1})
+        record = record_of(program, ByTrail(CLASSES, ("xb",)), case, ("xb", 0))
+        self.assertEqual(play(program, record).lengths[-1], 1)
+        self.assertFalse(leaves(program, case, ("xa",)))
+
+    def test_trails_that_are_all_taken(self):
+        # Six times one of seven errors while the last one is handled, and none of these trails leaves.
+        raising = ("either", *[(("raise", name),) for name in NAMES[:7]])
+        block = (raising,)
+        for _ in range(5):
+            block = (("try", block, ((("error",), None, (raising,)),), (), ()),)
+        block = (("try", block, ((("error",), None, (("raise", "xa", "none"),)),), (), ()),)
+        program = Program(CLASSES, *[Function(f"f{letter}", block=block) for letter in "abcdefghijkl"])
+        self.assertEqual(list(trails(program, ("fa", (), None), 6)), [("xa",)])
 
 
 if __name__ == "__main__":

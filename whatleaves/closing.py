@@ -23,7 +23,7 @@ def _sets(places):
     indexes = [()]
     for k in range(len(places)):
         indexes = indexes + [one + (k,) for one in indexes]
-    return [tuple([places[k] for k in one]) for one in sorted(indexes, key=_set_order)]
+    return [tuple([places[i] for i in one]) for one in sorted(indexes, key=_set_order)]
 
 
 def _set_order(one):

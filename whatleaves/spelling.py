@@ -47,7 +47,8 @@ class Speller:
         met = {node: True}
         waiting = [node]
         while len(waiting) > 0:
-            for other in self.digest.led_to[waiting.pop()]:
+            latest = waiting.pop()
+            for other in self.digest.led_to[latest]:
                 if other not in met and (other, length) not in self._sets and self._has_any(other, length):
                     met[other] = True
                     waiting.append(other)

@@ -31,7 +31,8 @@ def _path(grammar, start, ends):
     waiting = [(start, False)]
     k = 0
     while waiting[k] not in wanted:
-        for state in _behind(grammar, waiting[k]):
+        behind = _behind(grammar, waiting[k])
+        for state in behind:
             if state not in before:
                 before[state] = waiting[k]
                 waiting.append(state)
@@ -55,7 +56,7 @@ def _behind(grammar, state):
 def written_along(solver, walk, again):
     """(record, inner, outer) for a walk whose last front is front k again, of the rows inner and outer."""
     roots = [solver.root(strand_case(case)) for case, _ in walk]
-    ways = [_way(solver, roots, walk, k) for k in range(len(walk) - 1)]
+    ways = [_way(solver, roots, walk, i) for i in range(len(walk) - 1)]
     last = ("row", roots[-1], with_mark(walk[-1][1], 0))
     steps = [step for way in ways for step in way if step[0] == "row" and not _is_marked(step)]
     needed = needed_rows(solver, 0, steps + [last])
@@ -71,10 +72,10 @@ def written_along(solver, walk, again):
     return Record.made(rows), inner, len(rows) - 1 - again
 
 
-def _way(solver, roots, walk, k):
-    """A way to front k of a walk, with the next front in it."""
-    routes = MarkedRoutes(solver, roots[k + 1], walk[k + 1][1])
-    return routes.way_to(roots[k], walk[k][1])
+def _way(solver, roots, walk, i):
+    """A way to front i of a walk, with the next front in it."""
+    routes = MarkedRoutes(solver, roots[i + 1], walk[i + 1][1])
+    return routes.way_to(roots[i], walk[i][1])
 
 
 def _is_marked(step):
