@@ -34,12 +34,13 @@ class Digest:
 
     def possible_lengths(self, most):
         """For each node which lengths up to most its tuples can have: an integer with bit k for length k."""
-        found = [0 for _ in self.letters]
+        many = len(self.letters)
+        found = [0 for _ in range(many)]
         joined = {}
         has_changed = True
         while has_changed:
             has_changed = False
-            for node in range(len(found)):
+            for node in range(many):
                 lengths = self._lengths_at(node, found, joined, most)
                 if lengths != found[node]:
                     found[node] = lengths
