@@ -76,7 +76,8 @@ class LengthLooker(Weaver):
         """How calls of a case can finish, with the greatest lengths of the fronts."""
         if case not in self.cases:
             entry = self.table.get(case, {})
-            self.cases[case] = {_finish_of(key, case[2]): entry[key] for key in entry}
+            lengths = {key: True if key == "returns" else entry[key] for key in entry}
+            self.cases[case] = {_finish_of(key, case[2]): lengths[key] for key in lengths}
         return self.cases[case]
 
     def lengths_at(self, case):

@@ -58,9 +58,14 @@ class Weaver(Placer):
 
     def joined(self, one, other):
         """What is in one or the other of two bundles."""
+        if len(one) == 0:
+            return other
         both = {finish: one[finish] for finish in one}
         for finish in other:
-            self._put(both, finish, other[finish])
+            if finish not in both:
+                both[finish] = other[finish]
+            elif both[finish] is not True:
+                both[finish] = self.level.either(both[finish], other[finish])
         return both
 
     def put_behind(self, worth, bundle):
@@ -90,7 +95,10 @@ class Weaver(Placer):
             if finish[0] == "leaves" and finish[1][1] != NOTHING:
                 error = handled if finish[1][1] == HANDLED else bound[finish[1][1]]
                 finish, more = self._ahead_of(error, finish, more)
-            self._put(found, finish, more)
+            if finish not in found:
+                found[finish] = more
+            elif more is not True:
+                found[finish] = self.level.either(found[finish], more)
         return found
 
     def _ahead_of(self, error, finish, more):
@@ -101,12 +109,6 @@ class Weaver(Placer):
         if not bare:
             more = self.level.spread(self.level.together(self.level.gathered(more), behind))
         return ("leaves", (finish[1][0], base, False)), more
-
-    def _put(self, found, finish, more):
-        if finish not in found:
-            found[finish] = more
-        elif has_front(finish):
-            found[finish] = self.level.either(found[finish], more)
 
     def _whole(self, finish, more):
         return ("leaves", finish[1] + (self.level.gathered(more),)) if has_front(finish) else finish
